@@ -1,0 +1,1 @@
+"""Settings told in many places, met together."""

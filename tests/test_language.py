@@ -1,0 +1,190 @@
+# Holds the package's files to the rules L1 to L28 of the language, as far as they can be seen file by file.
+import ast
+import builtins
+import pathlib
+import re
+import unittest
+
+PACKAGE = pathlib.Path(__file__).resolve().parent.parent / "meetvalue"
+
+ERRORS = """Exception ValueError TypeError KeyError IndexError LookupError ZeroDivisionError ArithmeticError
+OverflowError RuntimeError NotImplementedError AttributeError StopIteration""".split()
+OWN_NAMES = ERRORS + """len range enumerate zip min max sum abs sorted reversed int str bool list tuple dict set
+isinstance ord repr any all divmod True False None""".split()
+METHODS = """append clear copy count endswith extend find get index insert isalnum isalpha isdigit islower isspace
+isupper items join keys ljust lower lstrip partition pop remove replace reverse rfind rjust rpartition rsplit rstrip
+setdefault split splitlines startswith strip update upper values zfill bit_length""".split()
+STATEMENTS = (
+    ast.FunctionDef, ast.ClassDef, ast.Assign, ast.AugAssign, ast.If, ast.While, ast.For, ast.Return, ast.Break,
+    ast.Continue, ast.Pass, ast.Raise, ast.Try, ast.Expr, ast.ImportFrom,
+)
+EXPRESSIONS = (
+    ast.BoolOp, ast.BinOp, ast.UnaryOp, ast.Lambda, ast.IfExp, ast.Dict, ast.Set, ast.ListComp, ast.Compare, ast.Call,
+    ast.JoinedStr, ast.FormattedValue, ast.Constant, ast.Attribute, ast.Subscript, ast.Name, ast.List, ast.Tuple,
+    ast.Slice,
+)
+BARRED_WORDS = """type typing typing_extensions enum Enum IntEnum StrEnum Flag IntFlag Generic Protocol ABC ABCMeta
+namedtuple NamedTuple TypedDict TYPE_CHECKING abstractmethod""".split()
+BARRED_WITHIN = ("dataclass", "overload", "contextmanager")
+BARRED_NAMES = """register mro elements open input version_info with_traceback add_note attrgetter breakpoint builtins
+compile copyright credits delattr dir eval exec exit gc getattr globals hasattr help id importlib license locals
+methodcaller os quit setattr super type vars sys format format_map""".split()
+BARRED_FILES = "test tests testing site conftest sitecustomize usercustomize".split() + BARRED_WORDS + dir(builtins)
+TWO_UNDERSCORES = "__init__ __eq__ __repr__ __str__ __len__ __all__ __version__".split()
+
+
+def faults_of_text(name, text):
+    lines = text.split("\n")
+    if len(lines) - 1 > 400:
+        yield "L10 more than 400 lines"
+    for number, line in enumerate(lines, 1):
+        if len(line) > 120:
+            yield f"L10 line {number}"
+        if re.search("[^ -~]", line):
+            yield f"L14 line {number}"
+    for word in BARRED_WORDS:
+        if re.search(rf"\b{word}\b", text):
+            yield f"L17 {word}"
+    for word in BARRED_WITHIN:
+        if word in text:
+            yield f"L17 {word}"
+    stem = name[: -len(".py")]
+    if stem != "__init__" and (not re.fullmatch("[a-z][a-z0-9_]*", stem) or stem in BARRED_FILES):
+        yield "L14 file name"
+    if stem.startswith("test_"):
+        yield "L14 file name"
+
+
+def faults_of_tree(tree):
+    own_methods = [n.name for c in ast.walk(tree) if isinstance(c, ast.ClassDef) for n in c.body if hasattr(n, "name")]
+    bound = names_bound(tree)
+    for name in bound:
+        if name not in TWO_UNDERSCORES and (not re.fullmatch("[A-Za-z][A-Za-z0-9_]*", name) or name in BARRED_NAMES):
+            yield f"L12, L17 name {name}"
+        if name in dir(builtins):
+            yield f"L15 name {name}"
+    top = [n.name for n in tree.body if isinstance(n, (ast.FunctionDef, ast.ClassDef))]
+    top += [t.id for n in tree.body if isinstance(n, ast.Assign) for t in n.targets if isinstance(t, ast.Name)]
+    top += [a.name for n in tree.body if isinstance(n, ast.ImportFrom) for a in n.names]
+    if len(top) != len(set(top)):
+        yield "L15 a name bound twice"
+    for node in ast.walk(tree):
+        where = f"line {getattr(node, 'lineno', 0)}"
+        if isinstance(node, ast.stmt) and not isinstance(node, STATEMENTS):
+            yield f"L6 {where}"
+        if isinstance(node, ast.expr) and not isinstance(node, EXPRESSIONS):
+            yield f"L7 {where}"
+        for fault in faults_of_node(node, bound, own_methods, tree):
+            yield f"{fault} {where}"
+
+
+def names_bound(tree):
+    names = []
+    for node in ast.walk(tree):
+        if isinstance(node, (ast.FunctionDef, ast.ClassDef)):
+            names.append(node.name)
+        if isinstance(node, ast.arg):
+            names.append(node.arg)
+        if isinstance(node, ast.Name) and isinstance(node.ctx, ast.Store):
+            names.append(node.id)
+        if isinstance(node, ast.alias):
+            names.append(node.asname or node.name)
+        if isinstance(node, ast.ExceptHandler) and node.name:
+            names.append(node.name)
+    return names
+
+
+def faults_of_node(node, bound, own_methods, tree):
+    if isinstance(node, ast.FunctionDef):
+        if node.end_lineno - node.lineno + 1 > 40:
+            yield "L10 more than 40 lines"
+        if node.decorator_list or node.args.vararg or node.args.kwarg or node.args.kwonlyargs:
+            yield "L4"
+    if isinstance(node, ast.ClassDef) and (node.decorator_list or len(node.bases) > 1 or node not in tree.body):
+        yield "L5, L15"
+    if isinstance(node, (ast.For, ast.While)) and node.orelse:
+        yield "L6 else behind a loop"
+    if isinstance(node, ast.Try) and node.finalbody:
+        yield "L6 finally"
+    if isinstance(node, ast.Assign) and len(node.targets) != 1:
+        yield "L6 targets"
+    if isinstance(node, ast.Expr) and not isinstance(node.value, ast.Call) and node is not tree.body[0]:
+        yield "L6 a value by itself"
+    if isinstance(node, ast.ImportFrom):
+        if node not in tree.body or node.level or not (node.module or "").startswith("meetvalue."):
+            yield "L2"
+        if any(alias.name == "*" for alias in node.names):
+            yield "L2"
+    if isinstance(node, ast.Constant):
+        if not isinstance(node.value, (int, str, type(None))):
+            yield "L7"
+        if isinstance(node.value, str) and "%" in node.value:
+            yield "L27"
+    if isinstance(node, ast.BinOp) and isinstance(node.op, (ast.Div, ast.MatMult)):
+        yield "L7"
+    if isinstance(node, ast.ListComp) and (len(node.generators) > 1 or len(node.generators[0].ifs) > 1):
+        yield "L7"
+    if isinstance(node, ast.Name) and isinstance(node.ctx, ast.Load) and node.id not in bound + OWN_NAMES:
+        yield f"L8 {node.id}"
+    if isinstance(node, ast.Attribute):
+        if node.attr in BARRED_NAMES or (node.attr.startswith("_") and node.attr not in TWO_UNDERSCORES):
+            yield f"L17 {node.attr}"
+    if isinstance(node, ast.Call) and isinstance(node.func, ast.Attribute):
+        if node.func.attr not in METHODS + own_methods:
+            yield f"L25 {node.func.attr}"
+    if isinstance(node, ast.ExceptHandler):
+        if node.type is None or (isinstance(node.type, ast.Name) and node.type.id in ("Exception", "TypeError")):
+            yield "L19"
+    if isinstance(node, ast.Compare):
+        for op, side in zip(node.ops, node.comparators):
+            if isinstance(op, (ast.Is, ast.IsNot)):
+                if not (isinstance(side, ast.Constant) and side.value in (None, True, False)):
+                    yield "L20"
+
+
+def faults(name, text):
+    return list(faults_of_text(name, text)) + list(faults_of_tree(ast.parse(text)))
+
+
+def drawn_from(text):
+    return [n.module for n in ast.walk(ast.parse(text)) if isinstance(n, ast.ImportFrom)]
+
+
+class Language(unittest.TestCase):
+    def files(self):
+        return sorted([path for path in PACKAGE.iterdir() if path.name != "__pycache__"])
+
+    def test_files(self):
+        self.assertIn("__init__.py", [path.name for path in self.files()])
+        for path in self.files():
+            with self.subTest(file=path.name):
+                self.assertTrue(path.is_file() and path.suffix == ".py")
+
+    def test_each_file(self):
+        for path in self.files():
+            with self.subTest(file=path.name):
+                self.assertEqual(faults(path.name, path.read_text(encoding="utf-8")), [])
+
+    def test_no_two_files_draw_from_one_another(self):
+        left = {f"meetvalue.{path.stem}": drawn_from(path.read_text(encoding="utf-8")) for path in self.files()}
+        while left:
+            free = [name for name in left if not any(other in left for other in left[name])]
+            self.assertNotEqual(free, [], f"a ring among {sorted(left)}")
+            for name in free:
+                del left[name]
+
+    def test_faults_are_seen(self):
+        for text in [
+            "import sys\n", "from os import path\n", "from . import x\n", "X = 1.5\n", "X = 1 / 2\n", "X = '%'\n",
+            "# a \u00e4\n", "# the type\n", "def f(*a):\n    pass\n", "def f(a):\n    assert a\n",
+            "def f(list):\n    pass\n", "def f(a):\n    return hash(a)\n", "def f(a):\n    return a.sort()\n",
+            "def f(a):\n    return a is f\n", "def f(a):\n    return [x for y in a for x in y]\n", "_x = 1\n",
+            "def f(a):\n    return {x for x in a}\n", "def f(a):\n" + "    f(a)\n" * 40, "X = 1\nX = 2\n",
+            "def f(a):\n    try:\n        f(a)\n    except Exception:\n        pass\n", "def f(a):\n    'a'\n    1\n",
+        ]:
+            with self.subTest(text=text):
+                self.assertNotEqual(faults("plain.py", text), [])
+
+
+if __name__ == "__main__":
+    unittest.main()
