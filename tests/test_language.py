@@ -30,6 +30,12 @@ BARRED_NAMES = """register mro elements open input version_info with_traceback a
 compile copyright credits delattr dir eval exec exit gc getattr globals hasattr help id importlib license locals
 methodcaller os quit setattr super type vars sys format format_map""".split()
 BARRED_FILES = "test tests testing site conftest sitecustomize usercustomize".split() + BARRED_WORDS + dir(builtins)
+KEYWORDS = {
+    "sorted": ("key", "reverse"), "min": ("key", "default"), "max": ("key", "default"), "sum": ("start",),
+    "enumerate": ("start",), "zip": ("strict",),
+}
+WALKED = "zip enumerate reversed range items keys values".split()
+WALKERS = "list tuple dict sorted sum any all enumerate zip min max join".split()
 TWO_UNDERSCORES = "__init__ __eq__ __repr__ __str__ __len__ __all__ __version__".split()
 
 
@@ -68,14 +74,64 @@ def faults_of_tree(tree):
     top += [a.name for n in tree.body if isinstance(n, ast.ImportFrom) for a in n.names]
     if len(top) != len(set(top)):
         yield "L15 a name bound twice"
+    yield from faults_of_top(tree)
+    yield from faults_of_locals(tree)
+    walked = walked_on_the_spot(tree)
     for node in ast.walk(tree):
         where = f"line {getattr(node, 'lineno', 0)}"
+        if isinstance(node, ast.Call):
+            if called(node) in WALKED and node not in walked:
+                yield f"L23 {where}"
+            if any(keyword.arg not in KEYWORDS.get(called(node), ()) for keyword in node.keywords):
+                if called(node) in OWN_NAMES + METHODS:
+                    yield f"L22 {where}"
         if isinstance(node, ast.stmt) and not isinstance(node, STATEMENTS):
             yield f"L6 {where}"
         if isinstance(node, ast.expr) and not isinstance(node, EXPRESSIONS):
             yield f"L7 {where}"
         for fault in faults_of_node(node, bound, own_methods, tree):
             yield f"{fault} {where}"
+
+
+def faults_of_top(tree):
+    defined = []
+    for node in tree.body:
+        if isinstance(node, ast.Assign):
+            for part in ast.walk(node.value):
+                if isinstance(part, ast.Name) and part.id not in defined:
+                    yield f"L3 line {node.lineno}"
+                if isinstance(part, (ast.Call, ast.BinOp, ast.ListComp, ast.Lambda, ast.Subscript, ast.Set)):
+                    yield f"L3 line {node.lineno}"
+                if isinstance(part, (ast.List, ast.Dict)) and part is not node.value:
+                    yield f"L15 line {node.lineno}"
+        elif isinstance(node, ast.FunctionDef):
+            defined.append(node.name)
+        elif not isinstance(node, (ast.ClassDef, ast.ImportFrom, ast.Expr)):
+            yield f"L3 line {node.lineno}"
+
+
+def faults_of_locals(tree):
+    barred = [a.name for n in tree.body if isinstance(n, ast.ImportFrom) for a in n.names]
+    barred += [n.name for n in tree.body if isinstance(n, ast.ClassDef)]
+    for function in [n for n in ast.walk(tree) if isinstance(n, (ast.FunctionDef, ast.Lambda))]:
+        for node in ast.walk(function):
+            name = node.arg if isinstance(node, ast.arg) else node.id if isinstance(node, ast.Name) else None
+            if name in barred and not isinstance(getattr(node, "ctx", None), ast.Load):
+                yield f"L15 local {name}"
+
+
+def called(node):
+    return node.func.attr if isinstance(node.func, ast.Attribute) else getattr(node.func, "id", "")
+
+
+def walked_on_the_spot(tree):
+    found = []
+    for node in ast.walk(tree):
+        if isinstance(node, (ast.For, ast.comprehension)):
+            found.append(node.iter)
+        if isinstance(node, ast.Call) and called(node) in WALKERS:
+            found += node.args if called(node) == "zip" else node.args[:1]
+    return found
 
 
 def names_bound(tree):
@@ -181,6 +237,10 @@ class Language(unittest.TestCase):
             "def f(a):\n    return a is f\n", "def f(a):\n    return [x for y in a for x in y]\n", "_x = 1\n",
             "def f(a):\n    return {x for x in a}\n", "def f(a):\n" + "    f(a)\n" * 40, "X = 1\nX = 2\n",
             "def f(a):\n    try:\n        f(a)\n    except Exception:\n        pass\n", "def f(a):\n    'a'\n    1\n",
+            "X = len('a')\n", "X = {1: [2]}\n", "Y = X\n", "def f(a):\n    x = zip(a, a)\n    return list(x)\n",
+            "def f(a):\n    return a.split(sep=',')\n", "def f(a):\n    return sorted(a, cmp=f)\n",
+            "from meetvalue.things import at\n\n\ndef f(at):\n    pass\n",
+            "class E(ValueError):\n    pass\n\n\ndef f(a):\n    E = a\n", "if 1:\n    X = 2\n",
         ]:
             with self.subTest(text=text):
                 self.assertNotEqual(faults("plain.py", text), [])

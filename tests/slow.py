@@ -1,0 +1,289 @@
+# What the document says of kinds, written anew by its words, slowly: the tests hold the program against it.
+import itertools
+
+from meetvalue.kinds import ANY, NOTHING, join, less
+from meetvalue.making import of_list, of_numbers, of_record, of_sort
+
+SHUT = ("rest", False, False)
+WIDE = ("rest", True, True)
+PLAIN_NOTHING = (False, (), (), ("only", ()), ("no",), SHUT)
+PLAIN_ANY = (True, (False, True), (((), ()),), ("but", ()), ("all",), WIDE)
+
+
+# ---- What is in a kind.
+
+def is_in(kind, thing):
+    none, truths, spans, texts, lists, records = kind
+    word = thing[0]
+    if word == "none":
+        return none
+    if word == "truth":
+        return thing[1] in truths
+    if word == "number":
+        return any((not low or low[0] <= thing[1]) and (not high or thing[1] <= high[0]) for low, high in spans)
+    if word == "text":
+        return (thing[1] in texts[1]) == (texts[0] == "only")
+    if word == "list":
+        return list_is_in(lists, thing[1])
+    return record_is_in(records, dict(thing[1]), ())
+
+
+def list_is_in(form, items):
+    if form[0] != "first":
+        return form[0] == "all"
+    if not items:
+        return form[1]
+    return any(is_in(kind, items[0]) and list_is_in(inner, items[1:]) for kind, inner in form[2])
+
+
+def record_is_in(form, fields, looked_at):
+    if form[0] == "rest":
+        return form[2] if set(fields) - set(looked_at) else form[1]
+    _, name, absent, branches = form
+    looked_at = looked_at + (name,)
+    if name not in fields:
+        return record_is_in(absent, fields, looked_at)
+    return any(is_in(kind, fields[name]) and record_is_in(inner, fields, looked_at) for kind, inner in branches)
+
+
+# ---- Whether a kind is told in its one form.
+
+def faults_of_kind(kind):
+    if not isinstance(kind, tuple) or len(kind) != 6:
+        return ["no tuple of six"]
+    none, truths, spans, texts, lists, records = kind
+    faults = []
+    if none is not True and none is not False:
+        faults.append("none is no truth")
+    if truths not in ((), (False,), (True,), (False, True)) or not all(isinstance(t, bool) for t in truths):
+        faults.append(f"truths {truths}")
+    faults += faults_of_spans(spans) + faults_of_texts(texts)
+    return faults + faults_of_list_form(lists) + faults_of_record_form(records, "")
+
+
+def faults_of_spans(spans):
+    if not isinstance(spans, tuple):
+        return ["spans no tuple"]
+    last = None
+    for k, (low, high) in enumerate(spans):
+        if low == () and k > 0 or high == () and k < len(spans) - 1:
+            return [f"spans without an end within {spans}"]
+        if low and high and low[0] > high[0]:
+            return [f"spans low above high {spans}"]
+        if last is not None and low[0] <= last + 1:
+            return [f"spans with no number missing between {spans}"]
+        last = high[0] if high else None
+    return []
+
+
+def faults_of_texts(texts):
+    word, named = texts
+    right = word in ("only", "but") and isinstance(named, tuple) and list(named) == sorted(set(named))
+    return [] if right else [f"texts {texts}"]
+
+
+def faults_of_list_form(form):
+    if form in (("all",), ("no",)):
+        return []
+    if not isinstance(form, tuple) or len(form) != 3 or form[0] != "first" or not isinstance(form[1], bool):
+        return [f"list form {form}"]
+    if form in (("first", False, ()), ("first", True, ((PLAIN_ANY, ("all",)),))):
+        return [f"list form that is not told {form}"]
+    faults = faults_of_branches(form[2], ("no",))
+    for kind, inner in form[2]:
+        faults += faults_of_list_form(inner)
+    return faults
+
+
+def faults_of_record_form(form, after):
+    if not isinstance(form, tuple) or form[0] not in ("rest", "name"):
+        return [f"record form {form}"]
+    if form[0] == "rest":
+        right = len(form) == 3 and all(isinstance(truth, bool) for truth in form[1:])
+        return [] if right else [f"record form {form}"]
+    _, name, absent, branches = form
+    faults = [] if name > after else [f"name {name} behind {after}"]
+    if branches == branches_unseen(absent):
+        faults.append(f"needless name {name}")
+    faults += faults_of_record_form(absent, name) + faults_of_branches(branches, SHUT)
+    for kind, inner in branches:
+        faults += faults_of_record_form(inner, name)
+    return faults
+
+
+def faults_of_branches(branches, none):
+    if not isinstance(branches, tuple) or not all(isinstance(b, tuple) and len(b) == 2 for b in branches):
+        return [f"branches {branches}"]
+    faults = []
+    if list(branches) != sorted(branches):
+        faults.append(f"branches unsorted {branches}")
+    for kind, form in branches:
+        if kind == PLAIN_NOTHING or form == none:
+            faults.append(f"a branch that lets nothing in {branches}")
+        faults += faults_of_kind(kind)
+    for (one, form), (other, other_form) in itertools.combinations(branches, 2):
+        if form == other_form:
+            faults.append(f"two branches with one form {branches}")
+        if overlap(one, other):
+            faults.append(f"two branches with a thing in common {branches}")
+    return faults
+
+
+def branches_unseen(absent):
+    wide = opened_slowly(absent)
+    return () if wide == SHUT else ((PLAIN_ANY, wide),)
+
+
+def opened_slowly(form):
+    if form[0] == "rest":
+        return ("rest", form[2], form[2])
+    _, name, absent, branches = form
+    wide = opened_slowly(absent)
+    kinds = {}
+    for kind, inner in branches:
+        inner = opened_slowly(inner)
+        if inner != SHUT:
+            kinds[inner] = join(kinds[inner], kind) if inner in kinds else kind
+    told = tuple(sorted((kind, inner) for inner, kind in kinds.items()))
+    return wide if told == branches_unseen(wide) else ("name", name, wide, told)
+
+
+# ---- Whether two kinds have a thing in common.
+
+def overlap(one, other):
+    return (
+        (one[0] and other[0])
+        or bool(set(one[1]) & set(other[1]))
+        or any(pairs_overlap(a, b) for a in one[2] for b in other[2])
+        or texts_overlap(one[3], other[3])
+        or lists_overlap(one[4], other[4])
+        or records_overlap(one[5], other[5])
+    )
+
+
+def pairs_overlap(one, other):
+    return all(not low or not high or low[0] <= high[0] for low, high in ((one[0], other[1]), (other[0], one[1])))
+
+
+def texts_overlap(one, other):
+    if one[0] == "but":
+        return other[0] == "but" or bool(set(other[1]) - set(one[1]))
+    return bool(set(one[1]) - set(other[1]) if other[0] == "but" else set(one[1]) & set(other[1]))
+
+
+def lists_overlap(one, other):
+    if ("no",) in (one, other):
+        return False
+    if ("all",) in (one, other):
+        return True
+    if one[1] and other[1]:
+        return True
+    return any(overlap(a[0], b[0]) and lists_overlap(a[1], b[1]) for a in one[2] for b in other[2])
+
+
+def records_overlap(one, other):
+    if one[0] == "rest" and other[0] == "rest":
+        return one[1] and other[1] or one[2] and other[2]
+    name = min(form[1] for form in (one, other) if form[0] == "name")
+    absents, branches = [], []
+    for form in (one, other):
+        looks = form[0] == "name" and form[1] == name
+        absents.append(form[2] if looks else form)
+        branches.append(form[3] if looks else branches_unseen(form))
+    if records_overlap(*absents):
+        return True
+    return any(overlap(a[0], b[0]) and records_overlap(a[1], b[1]) for a in branches[0] for b in branches[1])
+
+
+# ---- Spaces: all things parted into cells, told as a list of (marks, thing, kind): of each cell what it is known
+# by, one of its things, and the kind of its things, made by the program. A set of cells is then a kind that can be
+# made in many ways.
+
+def number(n):
+    return of_numbers(n, n)
+
+
+def numbers_space():
+    zero, one = number(0), number(1)
+    return [
+        (("zero",), ("number", 0), zero),
+        (("one",), ("number", 1), one),
+        (("other",), ("none",), less(less(ANY, zero), one)),
+    ]
+
+
+# Lists of no item, of one, of two, and of more, by their first two items; and what is no list.
+def lists_space(space):
+    cells = [(("no list",) * 3, ("number", 7), less(ANY, of_sort("list")))]
+    for length in (0, 1, 2, 3):
+        for chosen in itertools.product(space, repeat=min(length, 2)):
+            kinds = [kind for _, _, kind in chosen]
+            items = [thing for _, thing, _ in chosen] + [("none",)] * (length - len(chosen))
+            marks = (length,) + tuple(marks for marks, _, _ in chosen) + ("none",) * (2 - len(chosen))
+            told = of_list(kinds + [ANY], True) if length == 3 else of_list(kinds)
+            cells.append((marks, ("list", tuple(items)), told))
+    return cells
+
+
+# Records by what they have at each of the names, and whether they have others; and what is no record.
+def records_space(space, names, other):
+    lacking = ("lacking", None, NOTHING)
+    cells = [(("no record",) * (len(names) + 1), ("number", 7), less(ANY, of_sort("record")))]
+    for chosen in itertools.product([lacking] + space, repeat=len(names)):
+        looked_at = list(zip(names, chosen))
+        fields = [(name, kind, thing is not None) for name, (_, thing, kind) in looked_at]
+        things = [(name, thing) for name, (_, thing, _) in looked_at if thing is not None]
+        marks = tuple(marks for marks, _, _ in chosen)
+        cells.append((marks + (False,), ("record", tuple(sorted(things))), of_record(fields)))
+        wide = less(of_record(fields, True), of_record(fields))
+        cells.append((marks + (True,), ("record", tuple(sorted(things + [(other, ("none",))]))), wide))
+    return cells
+
+
+# A set of cells that hangs on some of their marks alone: so that there is much to be put together.
+def some_cells(chance, space):
+    marks = [k for k in range(len(space[0][0])) if chance.random() < 0.6]
+    share = chance.choice((0.1, 0.5, 0.9))
+    known = {}
+    told = []
+    for k, cell in enumerate(space):
+        told.append(known.setdefault(tuple(cell[0][m] for m in marks), chance.random() < share))
+    return [k for k, wanted in enumerate(told) if wanted]
+
+
+def joined(chance, space, cells):
+    kinds = [space[k][2] for k in cells]
+    chance.shuffle(kinds)
+    kind = NOTHING
+    for other in kinds:
+        kind = join(kind, other) if chance.random() < 0.5 else join(other, kind)
+    return kind
+
+
+def all_less(chance, space, cells):
+    kinds = [space[k][2] for k in range(len(space)) if k not in cells]
+    chance.shuffle(kinds)
+    kind = ANY
+    for other in kinds:
+        kind = less(kind, other)
+    return kind
+
+
+def spaces():
+    plain = numbers_space()
+    pairs = records_space(plain, ["b"], "a")
+    one_item = [cell for cell in lists_space(plain) if cell[0][0] in ("no list", 0, 1)]
+    rest = NOTHING
+    for cell in lists_space(plain):
+        if cell[0][0] in (2, 3):
+            rest = join(rest, cell[2])
+    one_item.append((("longer",) * 3, ("list", (("none",),) * 2), rest))
+    return [
+        ("numbers", plain),
+        ("lists", lists_space(plain)),
+        ("records", records_space(plain, ["b", "bb", "d"], "bc")),
+        ("records of one name", pairs),
+        ("lists of records", lists_space(pairs)),
+        ("records of lists", records_space(one_item, ["a", "c"], "b")),
+        ("records of records", records_space(pairs, ["a", "z"], "m")),
+    ]
