@@ -38,7 +38,7 @@ def mixed(word, one, other):
 
 
 # What takes no look within, of kinds and forms alike; None where it takes one.
-# Without it, mixing with all lists or all records would never come to an end.
+# Without it, all lists mixed with all lists would never come to an end.
 def at_once(word, one, other, none, whole):
     if one == other:
         return none if word == "less" else one

@@ -24,9 +24,10 @@ N = {k: ("number", k) for k in range(10)}
 
 THINGS = [
     ("none",), ("truth", True), ("truth", False), N[0], N[1], N[2], ("text", ""), ("text", "a"), ("text", "b"),
-    ("list", ()), ("list", (N[1],)), ("list", (N[2],)), ("list", (N[1], N[2])), ("list", (N[1], N[1], N[1])),
-    EMPTY, record(a=N[1]), record(a=N[2]), record(b=N[1]), record(a=N[1], b=N[1]), record(a=N[1], c=N[2]),
-    record(a=record(b=N[1])), ("list", (record(a=N[1]),)),
+    ("text", "none"), ("text", "truth"), ("text", "number"), ("text", "text"), ("text", "list"), ("text", "record"),
+    ("list", ()), ("list", (("none",),)), ("list", (N[1],)), ("list", (N[2],)), ("list", (N[1], N[2])),
+    ("list", (N[1], N[1], N[1])), EMPTY, record(a=N[1]), record(a=N[2]), record(b=N[1]), record(a=N[1], b=N[1]),
+    record(a=N[1], c=N[2]), record(a=record(b=N[1])), record(none=N[1]), ("list", (record(a=N[1]),)),
 ]
 
 KINDS = [
