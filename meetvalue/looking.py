@@ -1,8 +1,10 @@
 """What a kind holds, and what its records have at a path."""
 
-from meetvalue.kinds import ALL_LISTS, ANY, NO_LISTS, NO_RECORDS, NOTHING, join, less, opened
-from meetvalue.making import just, of_record
+from meetvalue.kinds import ALL_LISTS, NO_LISTS, NO_RECORDS, NOTHING, less
+from meetvalue.making import of_record
+from meetvalue.mixing import part_at
 from meetvalue.spans import in_spans, number_of
+from meetvalue.tables import Table, entered, told
 from meetvalue.texts import in_texts, text_of
 
 LETTERS = "abcdefghijklmnopqrstuvwxyz"
@@ -106,10 +108,43 @@ def name_by(number):
     return name
 
 
-# The same things are told by equal kinds: so a kind that isn't that of its thing has others, too.
 def only(kind):
-    thing = thing_of(kind)
-    return thing if thing is not None and kind == just(thing) else None
+    return thing_of(kind) if has_one(kind) else None
+
+
+# A kind has one thing where no other one could be taken on the way to it.
+def has_one(kind):
+    sorts = [sort for sort, empty in enumerate(NOTHING) if kind[sort] != empty]
+    if len(sorts) != 1:
+        return False
+    if sorts[0] == 2:
+        return len(kind[2]) == 1 and kind[2][0][0] == kind[2][0][1] != ()
+    if sorts[0] == 4:
+        return has_one_list(kind[4])
+    if sorts[0] == 5:
+        return has_one_record(kind[5])
+    return kind[0] or len(kind[1]) == 1 or (kind[3][0] == "only" and len(kind[3][1]) == 1)
+
+
+def has_one_list(form):
+    here = form
+    while here[0] == "first" and not here[1]:
+        if len(here[2]) > 1 or not has_one(here[2][0][0]):
+            return False
+        here = here[2][0][1]
+    return here == ("first", True, ())
+
+
+def has_one_record(form):
+    here = form
+    while here[0] == "name":
+        if here[3] == ():
+            here = here[2]
+        elif here[2] == NO_RECORDS and len(here[3]) == 1 and has_one(here[3][0][0]):
+            here = here[3][0][1]
+        else:
+            return False
+    return here == ("rest", True, False)
 
 
 def beyond(one, other):
@@ -117,34 +152,11 @@ def beyond(one, other):
 
 
 def part(kind, path):
-    here = kind
+    table = Table()
+    here = entered(table, kind)
     for name in path:
-        here = part_at(here, name)
-    return here
-
-
-# Forms that look at earlier names alone are walked through to those within; the same one waits once only.
-def part_at(kind, name):
-    waiting = [kind[5]]
-    found = NOTHING
-    while len(waiting) > 0:
-        form = waiting.pop(0)
-        if form[0] == "name" and form[1] < name:
-            waiting.extend([inner for inner in forms_within(form) if inner not in waiting])
-        elif form[0] == "name" and form[1] == name:
-            for inner_kind, inner in form[3]:
-                found = join(found, inner_kind)
-        elif opened(form) != NO_RECORDS:
-            return ANY
-    return found
-
-
-def forms_within(form):
-    forms = [form[2]]
-    for kind, inner in form[3]:
-        if inner != form[2]:
-            forms.append(inner)
-    return forms
+        here = part_at(table, here, name)
+    return told(table, here)
 
 
 def placed(path, kind):

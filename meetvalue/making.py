@@ -1,6 +1,6 @@
 """The making of kinds."""
 
-from meetvalue.kinds import ALL_LISTS, ANY, NO_RECORDS, NOTHING, list_form, record_form
+from meetvalue.kinds import ALL_LISTS, ANY, NO_LISTS, NO_RECORDS, NOTHING
 from meetvalue.spans import spans_of
 
 # As their parts stand in a kind; a thing begins with the same words.
@@ -31,7 +31,7 @@ def of_text(text):
 def of_list(kinds, more=False):
     form = ALL_LISTS if more else ("first", True, ())
     for kind in reversed(kinds):
-        form = list_form(False, [(kind, form)])
+        form = NO_LISTS if kind == NOTHING or form == NO_LISTS else ("first", False, ((kind, form),))
     return with_part("list", form)
 
 
@@ -39,8 +39,19 @@ def of_list(kinds, more=False):
 def of_record(fields, more=False):
     form = ("rest", True, more)
     for name, kind, must in sorted(fields, key=lambda field: field[0], reverse=True):
-        form = record_form(name, NO_RECORDS if must else form, [(kind, form)])
+        form = with_field(name, kind, must, form, more)
     return with_part("record", form)
+
+
+# All that such a form lets in stays in with a name more, where there may be more, and nothing of it does, where not:
+# so needless names are seen without opening it.
+def with_field(name, kind, must, form, more):
+    absent = NO_RECORDS if must else form
+    if kind == NOTHING or form == NO_RECORDS:
+        return ("name", name, absent, ()) if more and absent != NO_RECORDS else absent
+    if kind == ANY and more and not must:
+        return absent
+    return ("name", name, absent, ((kind, form),))
 
 
 def just(thing):

@@ -287,3 +287,165 @@ def spaces():
         ("records of lists", records_space(one_item, ["a", "c"], "b")),
         ("records of records", records_space(pairs, ["a", "z"], "m")),
     ]
+
+
+# ---- Expressions, read by parting their words where no bracket is open.
+
+class NoTree(Exception):
+    pass
+
+
+PLAIN_WORDS = "none yes no truth number text list record any nothing".split()
+
+
+def name_slowly(words):
+    if len(words) != 1 or not words[0].isalpha():
+        raise NoTree
+    return words[0]
+
+
+def path_slowly(words):
+    return tuple(name_slowly(part) for part in parted_at(".", words))
+
+
+def parted_at(sign, words):
+    parts, depth = [[]], 0
+    for k, word in enumerate(words):
+        depth += (word in ("(", "[", "{")) - (word in (")", "]", "}"))
+        name = sign == "else" and k > 0 and words[k - 1] in ("@", ".")
+        if word == sign and depth == 0 and not name:
+            parts.append([])
+        else:
+            parts[-1].append(word)
+    return parts
+
+
+def tree_slowly(words, free=True):
+    for sign, name in (("|", "or"), ("&", "and")):
+        parts = parted_at(sign, words)
+        if len(parts) > 1:
+            return (name, tuple(tree_slowly(part, free) for part in parts))
+    if not words:
+        raise NoTree
+    if words[0] == "!":
+        return ("not", tree_slowly(words[1:], False))
+    if words[0] == "@" and free:
+        return ("place", path_slowly(words[1:]))
+    if words[0] in ("(", "[", "{") and len(words) > 1:
+        return bracket_slowly(words, free)
+    if len(words) == 1 and words[0] in PLAIN_WORDS:
+        return ("word", words[0])
+    if len(words) == 1 and words[0][0] == '"':
+        return ("text", words[0][1:-1])
+    return span_slowly(words)
+
+
+def span_slowly(words):
+    ends = parted_at("..", words)
+    if len(ends) > 2 or any(len(end) > 1 for end in ends) or not any(ends):
+        raise NoTree
+    numbers = []
+    for end in ends:
+        if end and not end[0].lstrip("-").isdigit():
+            raise NoTree
+        numbers.append(int(end[0]) if end else None)
+    return ("span", numbers[0], numbers[-1])
+
+
+def bracket_slowly(words, free):
+    depth = 0
+    for k, word in enumerate(words):
+        depth += (word in ("(", "[", "{")) - (word in (")", "]", "}"))
+        if depth == 0 and k < len(words) - 1:
+            raise NoTree
+    if words[0] + words[-1] not in ("()", "[]", "{}"):
+        raise NoTree
+    if words[0] == "(":
+        return tree_slowly(words[1:-1], free)
+    parts = parted_at(",", words[1:-1]) if len(words) > 2 else []
+    more = parts[-1:] == [[".."]]
+    parts = parts[:-1] if more else parts
+    if words[0] == "[":
+        return ("list", tuple(tree_slowly(part, False) for part in parts), more)
+    fields = tuple(field_slowly(part) for part in parts)
+    if len({field[0] for field in fields}) < len(fields):
+        raise NoTree
+    return ("record", fields, more)
+
+
+def field_slowly(words):
+    head, *tail = parted_at(":", words)
+    if len(tail) != 1:
+        raise NoTree
+    must = head[-1:] != ["?"]
+    return (name_slowly(head if must else head[:-1]), tree_slowly(tail[0], False), must)
+
+
+def row_slowly(words):
+    head, *tail = parted_at(":", words)
+    if len(tail) != 1:
+        raise NoTree
+    return (path_slowly(head), tuple(tree_slowly(part) for part in parted_at("else", tail[0])))
+
+
+# ---- Whether an expression has a thing, where each place has the things that are told for it.
+
+def tree_has(tree, thing, places):
+    word = tree[0]
+    if word == "word":
+        if tree[1] in ("yes", "no"):
+            return thing == ("truth", tree[1] == "yes")
+        return tree[1] == "any" or tree[1] == thing[0]
+    if word == "span":
+        return thing[0] == "number" and (tree[1] is None or tree[1] <= thing[1]) and (tree[2] is None or thing[1] <= tree[2])
+    if word == "text":
+        return thing == tree
+    if word == "list":
+        return thing[0] == "list" and list_has(tree, thing[1], places)
+    if word == "record":
+        return thing[0] == "record" and record_has(tree, dict(thing[1]), places)
+    if word == "place":
+        return thing in places[tree[1]]
+    if word == "not":
+        return not tree_has(tree[1], thing, places)
+    return (all if word == "and" else any)(tree_has(inner, thing, places) for inner in tree[1])
+
+
+def list_has(tree, items, places):
+    _, inner, more = tree
+    if len(items) < len(inner) or (len(items) > len(inner) and not more):
+        return False
+    return all(tree_has(one, item, places) for one, item in zip(inner, items))
+
+
+def record_has(tree, fields, places):
+    _, inner, more = tree
+    if not more and set(fields) - {name for name, _, _ in inner}:
+        return False
+    for name, one, must in inner:
+        if name in fields and not tree_has(one, fields[name], places) or must and name not in fields:
+            return False
+    return True
+
+
+# ---- Trees by chance.
+
+def some_tree(chance, depth, places=()):
+    word = chance.choice(("word", "span", "text", "list", "record", "not", "and", "or", "place"))
+    if depth == 0 or word in ("word", "span", "text"):
+        if word == "span":
+            return ("span", chance.choice((None, 0, 1)), chance.choice((0, 1, 2)))
+        if places and chance.random() < 0.4:
+            return ("place", chance.choice(places))
+        return ("text", chance.choice(("", "a"))) if word == "text" else ("word", chance.choice(PLAIN_WORDS))
+    if word == "place":
+        return ("place", chance.choice(places)) if places else ("word", "any")
+    if word == "list":
+        return ("list", tuple(some_tree(chance, depth - 1) for _ in range(chance.randrange(3))), chance.random() < 0.5)
+    if word == "record":
+        names = chance.sample(("a", "b", "c"), chance.randrange(4))
+        fields = tuple((name, some_tree(chance, depth - 1), chance.random() < 0.5) for name in names)
+        return ("record", fields, chance.random() < 0.5)
+    if word == "not":
+        return ("not", some_tree(chance, depth - 1))
+    return (word, tuple(some_tree(chance, depth - 1, places) for _ in range(chance.choice((2, 2, 3)))))

@@ -61,8 +61,11 @@ def faults_of_text(name, text):
         yield "L14 file name"
 
 
-def faults_of_tree(tree):
-    own_methods = [n.name for c in ast.walk(tree) if isinstance(c, ast.ClassDef) for n in c.body if hasattr(n, "name")]
+def methods_of(tree):
+    return [n.name for c in ast.walk(tree) if isinstance(c, ast.ClassDef) for n in c.body if hasattr(n, "name")]
+
+
+def faults_of_tree(tree, own_methods):
     bound = names_bound(tree)
     for name in bound:
         if name not in TWO_UNDERSCORES and (not re.fullmatch("[A-Za-z][A-Za-z0-9_]*", name) or name in BARRED_NAMES):
@@ -198,8 +201,28 @@ def faults_of_node(node, bound, own_methods, tree):
                     yield "L20"
 
 
-def faults(name, text):
-    return list(faults_of_text(name, text)) + list(faults_of_tree(ast.parse(text)))
+def faults(name, text, others=()):
+    own_methods = [method for other in (text, *others) for method in methods_of(ast.parse(other))]
+    return list(faults_of_text(name, text)) + list(faults_of_tree(ast.parse(text), own_methods))
+
+
+# The values that objects are given, by name.
+def values_of(tree):
+    return [n.attr for n in ast.walk(tree) if isinstance(n, ast.Attribute) and isinstance(n.ctx, ast.Store)]
+
+
+def faults_of_classes(texts):
+    methods = [method for text in texts for method in methods_of(ast.parse(text))]
+    values = [value for text in texts for value in values_of(ast.parse(text))]
+    python_has = [name for value in ("", 0, [], {}, set(), b"") for name in dir(value)]
+    for value in values:
+        if value in methods:
+            yield f"L18 {value} is a method, too"
+        if value in python_has and value not in "count index title find get join lower upper split strip copy add".split():
+            yield f"L26 value {value}"
+    for method in methods:
+        if method in python_has and method not in METHODS + ["add", "discard"] + TWO_UNDERSCORES:
+            yield f"L26 method {method}"
 
 
 def drawn_from(text):
@@ -217,9 +240,11 @@ class Language(unittest.TestCase):
                 self.assertTrue(path.is_file() and path.suffix == ".py")
 
     def test_each_file(self):
-        for path in self.files():
+        texts = [path.read_text(encoding="utf-8") for path in self.files()]
+        for path, text in zip(self.files(), texts):
             with self.subTest(file=path.name):
-                self.assertEqual(faults(path.name, path.read_text(encoding="utf-8")), [])
+                self.assertEqual(faults(path.name, text, texts), [])
+        self.assertEqual(list(faults_of_classes(texts)), [])
 
     def test_no_two_files_draw_from_one_another(self):
         left = {f"meetvalue.{path.stem}": drawn_from(path.read_text(encoding="utf-8")) for path in self.files()}
@@ -244,6 +269,12 @@ class Language(unittest.TestCase):
         ]:
             with self.subTest(text=text):
                 self.assertNotEqual(faults("plain.py", text), [])
+        for text in [
+            "class A:\n    def __init__(self):\n        self.b = 1\n\n    def b(self):\n        pass\n",
+            "class A:\n    def __init__(self):\n        self.items = 1\n", "class A:\n    def sort(self):\n        pass\n",
+        ]:
+            with self.subTest(text=text):
+                self.assertNotEqual(list(faults_of_classes([text])), [])
 
 
 if __name__ == "__main__":
