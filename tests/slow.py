@@ -449,3 +449,79 @@ def some_tree(chance, depth, places=()):
     if word == "not":
         return ("not", some_tree(chance, depth - 1))
     return (word, tuple(some_tree(chance, depth - 1, places) for _ in range(chance.choice((2, 2, 3)))))
+
+
+# ---- What is left of some records, gone through one by one. The rows are so that no other things than VALUES can
+# stand at the names a, b and c; a record may have any other names, which no row speaks of.
+
+VALUES = [("number", 1), ("number", 2), ("record", ()), ("record", (("x", ("number", 1)),)), ("record", (("x", ("number", 2)),))]
+BOUNDS = ["a: 1 | 2 | {x?: 1 | 2}", "b: 1 | 2 | {x?: 1..2}", "c: 1..2 | {} | {x: 1} | {x: 2}"]
+
+
+def all_records():
+    records = []
+    for chosen in itertools.product([None] + VALUES, repeat=3):
+        fields = tuple((name, thing) for name, thing in zip("abc", chosen) if thing is not None)
+        records.append(("record", fields))
+    return records
+
+
+def thing_at(thing, path):
+    for name in path:
+        thing = dict(thing[1]).get(name) if thing is not None and thing[0] == "record" else None
+    return thing
+
+
+class ThingsAt(dict):
+    def __init__(self, records):
+        self.records = records
+
+    def __missing__(self, path):
+        self[path] = {thing_at(record, path) for record in self.records} - {None}
+        return self[path]
+
+
+def turn_slowly(rows, records, candidates):
+    places = ThingsAt(records)
+    known = {}
+
+    def fits(record):
+        for path, trees in rows:
+            thing = thing_at(record, path)
+            if (path, trees, thing) not in known:
+                known[path, trees, thing] = thing is not None and any(tree_has(tree, thing, places) for tree in trees)
+            if not known[path, trees, thing]:
+                return False
+        return True
+
+    return [record for record in candidates if fits(record)]
+
+
+def left_slowly(rows):
+    records = all_records()
+    while True:
+        left = turn_slowly(rows, records, records)
+        if left == records:
+            return left
+        records = left
+
+
+# Lines with the bounds among them, without a ring that builds, told by the given look for one.
+def some_lines(chance, ring_of, most=4):
+    paths = ["a", "b", "c", "a.x", "b.x", "c.x"]
+    while True:
+        lines = list(BOUNDS)
+        for _ in range(chance.randrange(most + 1)):
+            lines.append(chance.choice(paths) + ": " + " else ".join(
+                some_expression(chance, paths) for _ in range(chance.choice((1, 1, 2, 3)))
+            ))
+        chance.shuffle(lines)
+        if ring_of(lines) is None:
+            return lines
+
+
+def some_expression(chance, paths):
+    parts = []
+    for _ in range(chance.choice((1, 1, 1, 2, 3))):
+        parts.append(chance.choice(("@" + chance.choice(paths),) * 3 + ("1", "2", "1..2", "{x: 1}", "{..}", "{x?: 2}", "!1", "number", "any", "!{}")))
+    return chance.choice((" & ", " | ")).join(parts)
