@@ -1,7 +1,7 @@
 """The first choices that leave something."""
 
-from meetvalue.kinds import NOTHING
-from meetvalue.turns import come_to
+from meetvalue.tables import NOTHING, Table, told
+from meetvalue.turns import last_turn, refuse_ring
 
 
 def levels(rows):
@@ -16,20 +16,27 @@ def cut(rows, some):
     return [(path, trees[:kept.get(path, len(trees))]) for path, trees in rows]
 
 
-# With less alternatives, less is left: so the level that stands leaves something, and it takes no look.
 def chosen(rows):
-    if come_to(rows) == NOTHING:
-        return None
-    taken = [(path, count - 1) for path, count in levels(rows)]
-    for place, last in enumerate(list(taken)):
-        for level in range(last[1]):
-            tried = taken[:place] + [(last[0], level)] + taken[place + 1:]
-            if come_to(cut(rows, tried)) != NOTHING:
-                taken = tried
-                break
-    return taken
+    refuse_ring(rows)
+    return chosen_in(Table(), rows)
 
 
 def settled(rows):
-    taken = chosen(rows)
-    return NOTHING if taken is None else come_to(cut(rows, taken))
+    refuse_ring(rows)
+    table = Table()
+    taken = chosen_in(table, rows)
+    return told(table, NOTHING if taken is None else last_turn(table, cut(rows, taken)))
+
+
+# The level that stands leaves something, so it takes no look: with fewer alternatives no more is left.
+def chosen_in(table, rows):
+    if last_turn(table, rows) == NOTHING:
+        return None
+    taken = [(path, count - 1) for path, count in levels(rows)]
+    for place, standing in enumerate(list(taken)):
+        for level in range(standing[1]):
+            tried = taken[:place] + [(standing[0], level)] + taken[place + 1:]
+            if last_turn(table, cut(rows, tried)) != NOTHING:
+                taken = tried
+                break
+    return taken

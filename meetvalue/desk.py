@@ -26,7 +26,7 @@ class Desk:
 
     def drop(self, number):
         if number < 0 or number >= len(self.lines):
-            raise NoRow(f"no row has the number {number}")
+            raise NoRow("no row has this number")
         self.lines.pop(number)
         self.kept_rows.pop(number)
 

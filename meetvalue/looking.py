@@ -2,7 +2,7 @@
 
 from meetvalue.kinds import ALL_LISTS, NO_LISTS, NO_RECORDS, NOTHING, less
 from meetvalue.making import of_record
-from meetvalue.mixing import part_at
+from meetvalue.mixing import part_in
 from meetvalue.spans import in_spans, number_of
 from meetvalue.tables import Table, entered, told
 from meetvalue.texts import in_texts, text_of
@@ -153,10 +153,7 @@ def beyond(one, other):
 
 def part(kind, path):
     table = Table()
-    here = entered(table, kind)
-    for name in path:
-        here = part_at(table, here, name)
-    return told(table, here)
+    return told(table, part_in(table, entered(table, kind), path))
 
 
 def placed(path, kind):

@@ -1,43 +1,61 @@
 """The kind of an expression."""
 
-from meetvalue.kinds import ANY, NOTHING, join, less, meet
-from meetvalue.looking import part
-from meetvalue.making import of_list, of_numbers, of_record, of_sort, of_text, of_truth
+from meetvalue.making import of_numbers, of_sort, of_text, of_truth
+from meetvalue.mixing import list_form, mixed_kinds, mixed_together, part_in, record_form
+from meetvalue.tables import ALL_LISTS, ANY, NO_LISTS, NO_RECORDS, NOTHING, Table, entered, told
 
 
 def kind_of(tree, root):
-    word = tree[0]
-    if word == "word":
-        return kind_of_word(tree[1])
-    if word == "span":
-        return of_numbers(tree[1], tree[2])
-    if word == "text":
-        return of_text(tree[1])
-    if word == "list":
-        return of_list([kind_of(item, root) for item in tree[1]], tree[2])
-    if word == "record":
-        return of_record([(name, kind_of(inner, root), must) for name, inner, must in tree[1]], tree[2])
-    if word == "place":
-        return part(root, tree[1])
-    if word == "not":
-        return less(ANY, kind_of(tree[1], root))
-    return together(meet if word == "and" else join, [kind_of(inner, root) for inner in tree[1]])
+    table = Table()
+    return told(table, kind_in(table, tree, entered(table, root)))
 
 
-def kind_of_word(word):
-    if word == "any":
-        return ANY
-    if word == "nothing":
-        return NOTHING
-    if word in ("yes", "no"):
-        return of_truth(word == "yes")
-    return of_sort(word)
+# The kind's number in a table, by that of the root. Places stand within "&" and "|" alone: all else is the same by
+# any root.
+def kind_in(table, tree, root):
+    if tree[0] == "place":
+        return part_in(table, root, tree[1])
+    if tree[0] in ("and", "or"):
+        return mixed_together(table, tree[0], [kind_in(table, inner, root) for inner in tree[1]])
+    if tree not in table.trees:
+        table.trees[tree] = kind_without_places(table, tree)
+    return table.trees[tree]
 
 
-# Neighbours first, then what came of them: so with many kinds most of the mixing is of small ones.
-def together(mixing, kinds):
-    left = list(kinds)
-    while len(left) > 1:
-        odd = left[len(left) - 1:] if len(left) % 2 == 1 else []
-        left = [mixing(one, other) for one, other in zip(left[::2], left[1::2])] + odd
-    return left[0]
+def kind_without_places(table, tree):
+    if tree[0] == "word":
+        return kind_of_word(table, tree[1])
+    if tree[0] == "span":
+        return entered(table, of_numbers(tree[1], tree[2]))
+    if tree[0] == "text":
+        return entered(table, of_text(tree[1]))
+    if tree[0] == "not":
+        return mixed_kinds(table, "less", ANY, kind_in(table, tree[1], NOTHING))
+    if tree[0] == "list":
+        return with_forms(table, list_form_of(table, tree), NO_RECORDS)
+    return with_forms(table, NO_LISTS, record_form_of(table, tree))
+
+
+def kind_of_word(table, word):
+    if word in ("any", "nothing"):
+        return ANY if word == "any" else NOTHING
+    return entered(table, of_truth(word == "yes") if word in ("yes", "no") else of_sort(word))
+
+
+def with_forms(table, lists, records):
+    return table.number(table.nodes[NOTHING][:4] + (lists, records))
+
+
+def list_form_of(table, tree):
+    form = ALL_LISTS if tree[2] else table.number(("first", True, ()))
+    for item in reversed(tree[1]):
+        form = list_form(table, False, [(kind_in(table, item, NOTHING), form)])
+    return form
+
+
+# The forms within look at later names alone: so the last name comes first.
+def record_form_of(table, tree):
+    form = table.number(("rest", True, tree[2]))
+    for name, inner, must in sorted(tree[1], key=lambda field: field[0], reverse=True):
+        form = record_form(table, name, NO_RECORDS if must else form, [(kind_in(table, inner, NOTHING), form)])
+    return form

@@ -202,17 +202,35 @@ def opened_node(table, node):
     return wide if branches == unseen(wide) else table.number(("name", node[1], wide, branches))
 
 
-# The kind of all that a kind's records have at a name. Forms that look at earlier names are walked through.
+# Neighbours first, then what came of them: so with many kinds most of the mixing is of small ones.
+def mixed_together(table, word, kinds):
+    left = list(kinds)
+    while len(left) > 1:
+        odd = left[len(left) - 1:] if len(left) % 2 == 1 else []
+        left = [mixed_kinds(table, word, one, other) for one, other in zip(left[::2], left[1::2])] + odd
+    return left[0]
+
+
+# The kind of all that a kind's things have at a path.
+def part_in(table, kind, path):
+    here = kind
+    for name in path:
+        if (here, name) not in table.parts:
+            table.parts[(here, name)] = part_at(table, here, name)
+        here = table.parts[(here, name)]
+    return here
+
+
+# Forms that look at earlier names are walked through.
 def part_at(table, kind, name):
     waiting = [table.nodes[kind][5]]
     met = {waiting[0]: True}
-    found = NOTHING
+    found = []
     while len(waiting) > 0:
         form = waiting.pop()
         node = table.nodes[form]
         if node[0] == "name" and node[1] == name:
-            for inner_kind, inner in node[3]:
-                found = mixed_kinds(table, "or", found, inner_kind)
+            found.extend([inner_kind for inner_kind, inner in node[3]])
         elif node[0] == "name" and node[1] < name:
             for inner in [node[2]] + [behind for inner_kind, behind in node[3]]:
                 if inner not in met:
@@ -220,4 +238,4 @@ def part_at(table, kind, name):
                     waiting.append(inner)
         elif opened_form(table, form) != NO_RECORDS:
             return ANY
-    return found
+    return mixed_together(table, "or", [NOTHING] + found)

@@ -138,9 +138,10 @@ def record_tree(reader):
     names = {}
     while has_another(reader, "}", len(fields)):
         field = field_of(reader)
-        if field[0] in names:
-            raise NoText(f"{field[0]!r} twice")
-        names[field[0]] = True
+        name = field[0]
+        if name in names:
+            raise NoText(f"{name!r} twice")
+        names[name] = True
         fields.append(field)
     return ("record", tuple(fields), takes_end(reader, "}"))
 

@@ -174,5 +174,5 @@ def shown_way(sheet, taken, end):
 
 # A name that records lack is told by a kind without things, where it isn't left out.
 def shown_field(sheet, field):
-    mark = "?" if field[3] else ""
-    return f"{field[0]}{mark}: " + (shown_kind(sheet, field[1]) if field[2] else "nothing")
+    start = field[0] + ("?: " if field[3] else ": ")
+    return start + (shown_kind(sheet, field[1]) if field[2] else "nothing")

@@ -17,23 +17,31 @@ FIRST_NODES = (
     (False, (), (), ("only", ()), 0, 2), (True, (False, True), (((), ()),), ("but", ()), 1, 3),
 )
 
+# So deep Python's own == may go without a second thought.
+SAFE_DEPTH = 200
+
 
 # A node is a kind or a form in which numbers stand for the kinds and forms within: the same things, the same number.
 class Table:
     def __init__(self):
         self.numbers = {}
         self.nodes = []
-        # The whole tuples by their numbers, None where one hasn't been asked for.
+        # How deep the whole tuples are nested, and these themselves, None where one hasn't been asked for.
+        self.depths = []
         self.tuples = []
-        # What came of mixing and opening, so that it is done once.
+        # What came of mixing, of opening, of looking at a name, and of reading trees: so that each is done once.
         self.mixes = {}
         self.wide = {}
+        self.parts = {}
+        self.trees = {}
         for node in FIRST_NODES:
             self.number(node)
 
     def number(self, node):
         if node not in self.numbers:
             self.numbers[node] = len(self.nodes)
+            inner_depths = [self.depths[inner] for inner in numbers_within(node)]
+            self.depths.append(levels_of(node) + max(inner_depths, default=0))
             self.nodes.append(node)
             self.tuples.append(None)
         return self.numbers[node]
@@ -77,7 +85,7 @@ def entered_form_within(table, met, form):
         visit = visits[-1]
         if len(visit.found) < len(visit.inner):
             inner = visit.inner[len(visit.found)]
-            number = fork_met(forks, len(visits), inner)
+            number = fork_met(table, forks, len(visits), inner)
             if number is None:
                 visits.append(Visit(inner))
             else:
@@ -113,7 +121,7 @@ def numbered(table, met, branches, found):
 def entered_once(table, met, kind):
     look = (kind[:4], look_of(kind[4]), look_of(kind[5]))
     for other, number in met.get(look, []):
-        if are_surely_same_kinds(kind, other):
+        if are_surely_same(kind, other, table.depths[number], kinds_differ):
             return number
     number = entered_within(table, met, kind)
     met.setdefault(look, []).append((kind, number))
@@ -145,24 +153,21 @@ def level_of(depth, form):
 
 # The number of a fork that was met before: else forms in which ways part and meet again would be gone through anew by
 # each way, and these double with each fork. What was met last is met again most often.
-def fork_met(forks, depth, form):
+def fork_met(table, forks, depth, form):
     if is_fork(forms_within(form)):
         for other, number in reversed(forks.get(level_of(depth, form), [])):
-            if are_surely_same(form, other):
+            if are_surely_same(form, other, table.depths[number], differ_on_way):
                 return number
     return None
 
 
-# True where two forms are surely the same; where that isn't sure, False. Two ways down are compared step by step, as
-# Python's == would go too deep where they differ late. Behind that, == sees at once that two are one object: equal
-# forms that were told within one kind are.
-def are_surely_same(one, other):
-    return not differ_on_way(one, other, 0) and not differ_on_way(one, other, -1) and [one] == [other]
-
-
-# The two look the same from without.
-def are_surely_same_kinds(one, other):
-    return not kinds_differ(one, other, 0) and not kinds_differ(one, other, -1) and [one] == [other]
+# True where two kinds or two forms are surely the same; where that isn't sure, False. Python's == would go too deep
+# where deep ones differ late: so two ways down are compared step by step ahead of it. Behind that, == sees at once
+# that two are one object: equal ones that were told within one kind are.
+def are_surely_same(one, other, depth, differ):
+    if depth > SAFE_DEPTH and (differ(one, other, 0) or differ(one, other, -1)):
+        return False
+    return [one] == [other]
 
 
 def kinds_differ(one, other, place):
@@ -173,28 +178,26 @@ def kinds_differ(one, other, place):
 
 # On the way, the first or the last of the kinds and of the forms within is gone into each time.
 def differ_on_way(one, other, place):
-    pair = (one, other)
-    while is_deep(pair[0]):
-        if look_different(pair[0], pair[1], place):
+    here = one
+    there = other
+    while is_deep(here):
+        branches = here[-1]
+        others = there[-1]
+        if here[:2] != there[:2] or len(branches) != len(others):
             return True
-        pairs = [(pair[0][2], pair[1][2])] if pair[0][0] == "name" else []
-        pairs.extend([(branch[1], other_branch[1]) for branch, other_branch in zip(pair[0][-1], pair[1][-1])])
-        deep = [inner for inner in pairs if is_deep(inner[0])]
-        if len(deep) == 0:
-            return any([inner[0] != inner[1] for inner in pairs])
-        pair = deep[place]
-    return pair[0] != pair[1]
-
-
-def look_different(one, other, place):
-    branches = one[-1]
-    others = other[-1]
-    if one[:2] != other[:2] or len(branches) != len(others):
-        return True
-    for branch, other_branch in zip(branches, others):
-        if branch[0][:4] != other_branch[0][:4]:
+        pairs = [(here[2], there[2])] if here[0] == "name" else []
+        for branch, other_branch in zip(branches, others):
+            if branch[0][:4] != other_branch[0][:4]:
+                return True
+            pairs.append((branch[1], other_branch[1]))
+        if branches != () and kinds_differ(branches[place][0], others[place][0], place):
             return True
-    return len(branches) > 0 and kinds_differ(branches[place][0], others[place][0], place)
+        deep = [pair for pair in pairs if is_deep(pair[0])]
+        if deep == []:
+            return any([pair[0] != pair[1] for pair in pairs])
+        here = deep[place][0]
+        there = deep[place][1]
+    return here != there
 
 
 # The tuple that a number stands for.
@@ -217,6 +220,11 @@ def numbers_within(node):
     if node[0] == "name":
         return [node[2]] + both_of_each(node[3])
     return list(node[4:]) if len(node) == 6 else []
+
+
+# What is within a branch is nested in a pair, that in the branches, and these in the form.
+def levels_of(node):
+    return 3 if node[0] == "first" or node[0] == "name" else 1
 
 
 def both_of_each(branches):

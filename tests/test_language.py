@@ -179,6 +179,8 @@ def faults_of_node(node, bound, own_methods, tree):
             yield "L7"
         if isinstance(node.value, str) and "%" in node.value:
             yield "L27"
+    if isinstance(node, ast.FormattedValue) and (not isinstance(node.value, ast.Name) or node.format_spec):
+        yield "L7 f-string"
     if isinstance(node, ast.BinOp) and isinstance(node.op, (ast.Div, ast.MatMult)):
         yield "L7"
     if isinstance(node, ast.ListComp) and (len(node.generators) > 1 or len(node.generators[0].ifs) > 1):
@@ -266,6 +268,7 @@ class Language(unittest.TestCase):
             "def f(a):\n    return a.split(sep=',')\n", "def f(a):\n    return sorted(a, cmp=f)\n",
             "from meetvalue.things import at\n\n\ndef f(at):\n    pass\n",
             "class E(ValueError):\n    pass\n\n\ndef f(a):\n    E = a\n", "if 1:\n    X = 2\n",
+            "def f(a):\n    return f'{a[0]}'\n", "def f(a):\n    return f'{a:3}'\n",
         ]:
             with self.subTest(text=text):
                 self.assertNotEqual(faults("plain.py", text), [])
