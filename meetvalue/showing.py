@@ -5,8 +5,9 @@ from meetvalue.mixing import mixed_forms, mixed_kinds
 from meetvalue.tables import ALL_LISTS, ALL_RECORDS, ANY, NO_LISTS, NO_RECORDS, NOTHING, Table, entered
 from meetvalue.ways import count_ways, ways_of
 
-# Up to so many alternatives are told as they are found.
+# Up to so many alternatives are told as they are found; and what is parted is parted again up to so many times.
 FEW_WAYS = 4
+MOST_PARTING = 60
 
 
 def shown_thing(thing):
@@ -70,13 +71,9 @@ def negated(text):
 def weight(sheet, kind):
     node = sheet.table.nodes[kind]
     plain = [1 for truth in (node[0], node[1] != (), node[3][0] == "but") if truth]
-    lists = weight_of_form(sheet, node[4], NO_LISTS, ALL_LISTS)
-    records = weight_of_form(sheet, node[5], NO_RECORDS, ALL_RECORDS)
+    lists = plan_of(sheet, node[4], NO_LISTS, ALL_LISTS, MOST_PARTING)[0]
+    records = plan_of(sheet, node[5], NO_RECORDS, ALL_RECORDS, MOST_PARTING)[0]
     return len(plain) + len(node[2]) + len(node[3][1]) + lists + records
-
-
-def weight_of_form(sheet, form, none, whole):
-    return plan_of(sheet, form, none, whole)[0]
 
 
 def alternatives(sheet, kind):
@@ -107,21 +104,21 @@ def shown_texts(texts):
 
 # How lists alone, or records alone, are shown: a tuple (how many alternatives it takes, word, forms). By the word
 # "ways" all ways through the form are told, by "less" those through all others; by "and" and "or" it is mixed of forms.
-def plan_of(sheet, form, none, whole):
+def plan_of(sheet, form, none, whole, parting):
     if form not in sheet.plans:
         others = mixed_forms(sheet.table, "less", whole, form, none, whole)
         plans = [
             (count_ways(sheet.table, sheet.counts, form), "ways", [form]),
             (1 + count_ways(sheet.table, sheet.counts, others), "less", [others]),
         ]
-        if whole == ALL_RECORDS and min([plan[0] for plan in plans]) > FEW_WAYS:
-            plans.extend(plans_of_parts(sheet, form, others))
+        if whole == ALL_RECORDS and parting > 0 and min([plan[0] for plan in plans]) > FEW_WAYS:
+            plans.extend(plans_of_parts(sheet, form, others, parting - 1))
         sheet.plans[form] = min(plans, key=lambda plan: plan[0])
     return sheet.plans[form]
 
 
 # Others parted into what meets in them: then all but each of these are joined in the form.
-def plans_of_parts(sheet, form, others):
+def plans_of_parts(sheet, form, others, parting):
     table = sheet.table
     met = parted(table, sheet.counts, form)
     joined = []
@@ -130,7 +127,8 @@ def plans_of_parts(sheet, form, others):
     plans = []
     for word, forms in (("and", met), ("or", joined)):
         if len(forms) > 1:
-            plans.append((sum([weight_of_form(sheet, part, NO_RECORDS, ALL_RECORDS) for part in forms]), word, forms))
+            weights = [plan_of(sheet, part, NO_RECORDS, ALL_RECORDS, parting)[0] for part in forms]
+            plans.append((sum(weights), word, forms))
     return plans
 
 
@@ -138,7 +136,7 @@ def plans_of_parts(sheet, form, others):
 def shown_form(sheet, form, none, whole, sort):
     if form == whole:
         return [sort]
-    plan = plan_of(sheet, form, none, whole)
+    plan = plan_of(sheet, form, none, whole, MOST_PARTING)
     if plan[1] == "ways":
         return shown_ways(sheet, form)
     if plan[1] == "less":

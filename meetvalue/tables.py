@@ -19,6 +19,7 @@ FIRST_NODES = (
 
 # So deep Python's own == may go without a second thought.
 SAFE_DEPTH = 200
+FEW = 10
 
 
 # A node is a kind or a form in which numbers stand for the kinds and forms within: the same things, the same number.
@@ -110,21 +111,21 @@ def number_of_visit(table, met, visit):
 
 
 def numbered(table, met, branches, found):
-    kinds = [kind for kind, form in branches]
-    if len([kind for kind in kinds if is_deep_kind(kind)]) > 1:
-        return tuple([(entered_once(table, met, kind), number) for kind, number in zip(kinds, found)])
-    return tuple([(entered_within(table, met, kind), number) for kind, number in zip(kinds, found)])
+    return tuple([(entered_once(table, met, branch[0]), number) for branch, number in zip(branches, found)])
 
 
-# Of several kinds side by side, one has often within it what another one has, too, and so on within that: gone
-# through anew each time, they would double with each step inwards.
+# A kind often stands in several places, and what is within it again: gone through anew each time, they would double
+# with each step inwards. A look at the last ones that look alike will mostly do.
 def entered_once(table, met, kind):
+    if not is_deep_kind(kind):
+        return entered_within(table, met, kind)
     look = (kind[:4], look_of(kind[4]), look_of(kind[5]))
-    for other, number in met.get(look, []):
+    alike = met.setdefault(look, [])
+    for other, number in alike[-FEW:]:
         if are_surely_same(kind, other, table.depths[number], kinds_differ):
             return number
     number = entered_within(table, met, kind)
-    met.setdefault(look, []).append((kind, number))
+    alike.append((kind, number))
     return number
 
 

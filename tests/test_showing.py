@@ -4,9 +4,11 @@ import unittest
 from meetvalue.kinds import ANY, NOTHING, are_same, join, less
 from meetvalue.making import just, of_list, of_numbers, of_record, of_sort, of_text, of_truth
 from meetvalue.meaning import kind_of
+from meetvalue.mixing import mixed_kinds
 from meetvalue.reading import read
 from meetvalue.rings import places_of
 from meetvalue.showing import shown, shown_thing
+from meetvalue.tables import Table, entered, told
 from slow import joined, number, some_cells, some_tree, spaces
 
 ONE, TWO = number(1), number(2)
@@ -93,6 +95,35 @@ class Shown(unittest.TestCase):
     # The desk tells this one sign by sign.
     def test_nothing(self):
         self.assertEqual(shown(NOTHING), "nothing")
+
+    # Which of several is told is the program's own affair: it keeps to short ones.
+    def test_short(self):
+        for text in [
+            "any", "number", "1 | 5..", "..-1 | 1..", 'text & !"a"', 'text & !"" & !"b"', "!1", "!truth", '!"a"', "!(1 | \"a\")", "!yes",
+            "none | truth", "yes | 1..2", "list", "[]", "[1, ..]", "[any, ..]", "list & ![1, 1] & ![2, ..]", "![1, 2]", "[1] | [2, 2]", "7 | [1..2]",
+            "record", "{}", "{a: 1, ..}", "{a?: 1}", "{a?: nothing, ..}", "record & !{a: 1, b: 1}", "!{a: 1}", "{a: 1, ..} & !{a: 1}", "{a: !1, b?: any}",
+            "{a: 1, b: 1} | {a: 2, b: 2}", "none | {a: [1, ..], ..}", "!(none | [1] | {a: 1})", "none | record & !{a: 1, b: 2}",
+            "{a: 1, b: 1, ..} | {c: 1, d: 1, ..} | {e: 1, f: 1, ..} | {g: 1, h: 1, ..}", "!(list | record & !{a: 1, b: 1})",
+            "({a: 1, ..} | {a: 2, b: 1, ..}) & ({c: 1, ..} | {c: 2, d: 1, ..}) & ({e: 1, ..} | {e: 2, f: 1, ..})",
+        ]:
+            with self.subTest(text=text):
+                self.assertEqual(shown(kind_of(read(text), NOTHING)), text)
+
+    # Parted into what is met, that into what is joined, and so on, as deep as expressions may be.
+    def test_one_within_another(self):
+        table = Table()
+
+        def wide(name):
+            return entered(table, of_record([(name, ONE, True)], True))
+
+        kind = wide("zzz")
+        for name in reversed(NAMES[:25]):
+            both = mixed_kinds(table, "and", wide(name + "c"), wide(name + "d"))
+            either = mixed_kinds(table, "or", wide(name + "a"), wide(name + "b"))
+            kind = mixed_kinds(table, "and", either, mixed_kinds(table, "or", both, kind))
+        text = shown(told(table, kind))
+        self.assertLess(len(text), 5000)
+        self.assertTrue(are_same(kind_of(read(text), NOTHING), told(table, kind)))
 
     def test_sets_of_cells(self):
         chance = random.Random(11)
