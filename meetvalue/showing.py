@@ -1,5 +1,6 @@
 """Things and kinds shown as expressions."""
 
+from meetvalue.covers import cover_of
 from meetvalue.cuts import parted
 from meetvalue.mixing import mixed_forms, mixed_kinds
 from meetvalue.tables import ALL_LISTS, ALL_RECORDS, ANY, NO_LISTS, NO_RECORDS, NOTHING, Table, entered
@@ -8,6 +9,8 @@ from meetvalue.ways import count_ways, ways_of
 # Up to so many alternatives are told as they are found; and what is parted is parted again up to so many times.
 FEW_WAYS = 4
 MOST_PARTING = 60
+# Forms nested no deeper are told by fewer rows of fields, where there are.
+MOST_DEPTH = 150
 
 
 def shown_thing(thing):
@@ -44,6 +47,7 @@ class Sheet:
         self.shown_kinds = {}
         self.counts = {}
         self.plans = {}
+        self.covers = {}
 
 
 def shown_kind(sheet, kind):
@@ -107,14 +111,25 @@ def shown_texts(texts):
 def plan_of(sheet, form, none, whole, parting):
     if form not in sheet.plans:
         others = mixed_forms(sheet.table, "less", whole, form, none, whole)
-        plans = [
-            (count_ways(sheet.table, sheet.counts, form), "ways", [form]),
-            (1 + count_ways(sheet.table, sheet.counts, others), "less", [others]),
-        ]
+        plans = [(fewest_ways(sheet, form), "ways", [form]), (1 + fewest_ways(sheet, others), "less", [others])]
         if whole == ALL_RECORDS and parting > 0 and min([plan[0] for plan in plans]) > FEW_WAYS:
             plans.extend(plans_of_parts(sheet, form, others, parting - 1))
         sheet.plans[form] = min(plans, key=lambda plan: plan[0])
     return sheet.plans[form]
+
+
+def fewest_ways(sheet, form):
+    cover = cover_for(sheet, form)
+    return count_ways(sheet.table, sheet.counts, form) if cover is None else len(cover)
+
+
+# None where the ways through the form are told as they are.
+def cover_for(sheet, form):
+    if form not in sheet.covers:
+        small = sheet.table.depths[form] <= MOST_DEPTH and count_ways(sheet.table, sheet.counts, form) > 1
+        with_names = sheet.table.nodes[form][0] == "name"
+        sheet.covers[form] = cover_of(sheet.table, form) if small and with_names else None
+    return sheet.covers[form]
 
 
 # Others parted into what meets in them: then all but each of these are joined in the form.
@@ -156,7 +171,8 @@ def met_with(shown_parts):
 
 
 def shown_ways(sheet, form):
-    return [shown_way(sheet, taken, end) for taken, end in ways_of(sheet.table, form)]
+    cover = cover_for(sheet, form)
+    return [shown_way(sheet, taken, end) for taken, end in (ways_of(sheet.table, form) if cover is None else cover)]
 
 
 def shown_way(sheet, taken, end):
@@ -164,7 +180,8 @@ def shown_way(sheet, taken, end):
         items = [shown_kind(sheet, kind) for kind in taken]
         return "[" + ", ".join(items + [".."] if end[0] == "all" else items) + "]"
     shut = "{" + ", ".join([shown_field(sheet, field) for field in taken if field[2]]) + "}"
-    wide = "{" + ", ".join([shown_field(sheet, field) for field in taken] + [".."]) + "}"
+    narrow = [field for field in taken if field[1] != ANY or not field[3]]
+    wide = "{" + ", ".join([shown_field(sheet, field) for field in narrow] + [".."]) + "}"
     if end[2]:
         return wide if end[1] else f"{wide} & !{shut}"
     return shut

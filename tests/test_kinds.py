@@ -5,9 +5,10 @@ import unittest
 
 from meetvalue.kinds import ANY, NOTHING, join, less, meet, opened
 from meetvalue.making import just, of_list, of_numbers, of_record, of_sort, of_text, of_truth
+from meetvalue.meaning import kind_of
 from slow import (
     PLAIN_ANY, PLAIN_NOTHING, SHUT, WIDE, all_less, faults_of_kind, faults_of_record_form, is_in, joined, number,
-    opened_slowly, record_is_in, some_cells, spaces,
+    opened_slowly, record_is_in, some_cells, some_tree, spaces,
 )
 
 NO, ALL, END = ("no",), ("all",), ("first", True, ())
@@ -110,6 +111,33 @@ class Lists(unittest.TestCase):
         for k, kind in enumerate(kinds):
             told = join(of_list([kind, number(100 + k)]), told)
         self.assertEqual([branch[0] for branch in told[4][2]], in_order)
+
+    # Where the first difference lies deep within, where one has more branches than the other, or no such name.
+    def test_branches_are_sorted_as_tuples_deep_within(self):
+        one_list = of_list([ONE])
+        for first, second in [
+            (of_list([one_list, ONE]), of_list([join(one_list, of_list([TWO, THREE])), TWO])), (of_record([("a", ONE, True)]), of_record([("a", TWO, False), ("b", ONE, True)])),
+            (of_record([("a", ONE, True)], True), of_record([("a", NOTHING, False)], True)), (of_list([]), of_list([ONE])), (of_list([ONE], True), of_list([TWO])),
+            (of_record([("a", of_list([ONE]), True)]), of_record([("a", of_list([ONE, ONE]), True)])), (of_sort("list"), of_sort("record")),
+        ]:
+            self.assertEqual(meet(first, second), NOTHING)
+            for one, other in ((first, second), (second, first)):
+                for kind in (join(of_list([one, ONE]), of_list([other, TWO])), join(of_record([("n", one, True), ("x", ONE, True)]), of_record([("n", other, True)]))):
+                    with self.subTest(one=one, other=other):
+                        self.assertEqual(faults_of_kind(kind), [])
+
+    def test_branches_are_sorted_as_tuples_by_chance(self):
+        chance = random.Random(19)
+        for _ in range(400):
+            kinds, taken = [], NOTHING
+            for _ in range(chance.choice((2, 2, 3))):
+                kind = less(kind_of(some_tree(chance, 3), NOTHING), taken)
+                taken = join(taken, kind)
+                kinds.append(kind)
+            told = NOTHING
+            for k, kind in enumerate(kinds):
+                told = join(told, of_list([kind, number(k)]) if chance.random() < 0.5 else of_record([("n", kind, True), ("x", number(k), True)]))
+            self.assertEqual(faults_of_kind(told), [])
 
     def test_a_branch_that_comes_to_nothing_is_left_out(self):
         one = join(of_list([ONE, ONE]), of_list([TWO, TWO]))
