@@ -63,7 +63,8 @@ def covered_at_name(search, low, high, names):
     return (ways, record_form(search.table, name, cells[-1].cover, pairs))
 
 
-# The last cell is that of the records without the name: mostly, what is told of others will do for it.
+# The last cell is that of the records without the name: mostly, what is told of others will do for it. Also cells that
+# let in nothing count, so that no more is taken for common than may be told without the name.
 def cells_at(table, name, low, high):
     inner = with_name(table, name, low)
     outer = with_name(table, name, high)

@@ -1,6 +1,8 @@
 import random
 import unittest
+from unittest import mock
 
+from meetvalue.covers import cover_of
 from meetvalue.kinds import ANY, NOTHING, are_same, join, less
 from meetvalue.making import just, of_list, of_numbers, of_record, of_sort, of_text, of_truth
 from meetvalue.meaning import kind_of
@@ -8,7 +10,7 @@ from meetvalue.mixing import mixed_kinds
 from meetvalue.reading import read
 from meetvalue.rings import places_of
 from meetvalue.showing import shown, shown_thing
-from meetvalue.tables import Table, entered, told
+from meetvalue.tables import Table, entered, entered_form, told
 from slow import joined, number, some_cells, some_tree, spaces
 
 ONE, TWO = number(1), number(2)
@@ -142,6 +144,29 @@ class Shown(unittest.TestCase):
             tree = some_tree(chance, 4)
             with self.subTest(tree=tree):
                 self.hold(kind_of(tree, NOTHING))
+
+    # What takes too long to be told by few rows is told otherwise.
+    def test_given_up(self):
+        texts = [
+            "{a: 1, b: 1, ..} | {b: 2, c: 1, ..} | {c: 2, d: 1, ..} | {d: 2, ..}", "{a: 1, b: 2} | {a: 2, b: 1} | {c: 3} | {d: 3, ..}",
+            "({a: 1, ..} | {b: 1, ..}) & ({c: 1, d: 1, ..} | {e: 7, ..})",
+        ]
+        for looks, names in ((0, 60), (1, 60), (5, 60), (20, 60), (2000, 0), (2000, 1), (2000, 3), (2000, 60)):
+            with mock.patch("meetvalue.covers.MOST_LOOKS", looks), mock.patch("meetvalue.covers.MOST_NAMES", names):
+                for text in texts:
+                    kind = kind_of(read(text), NOTHING)
+                    table = Table()
+                    with self.subTest(text=text, looks=looks, names=names):
+                        cover = cover_of(table, entered_form(table, kind[5]))
+                        if looks < 2 or names < 2:
+                            self.assertIsNone(cover)
+                        if (looks, names) == (2000, 60):
+                            self.assertLess(len(cover), 6)
+                        self.hold(kind)
+        many = NAMES[:80]
+        text = " | ".join("{a: %d, %s: 1, ..}" % pair for pair in enumerate(many)) + " | {a?: !0..79, z: 1, ..}"
+        kind = kind_of(read(text), NOTHING)
+        self.assertTrue(are_same(kind_of(read(shown(kind)), NOTHING), kind))
 
     # Told way by way, these would have as many alternatives as two to the power of sixty.
     def test_many_ways(self):
