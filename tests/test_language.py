@@ -248,6 +248,18 @@ class Language(unittest.TestCase):
                 self.assertEqual(faults(path.name, text, texts), [])
         self.assertEqual(list(faults_of_classes(texts)), [])
 
+    def test_names_are_drawn_from_where_they_are_defined(self):
+        trees = {f"meetvalue.{path.stem}": ast.parse(path.read_text(encoding="utf-8")) for path in self.files()}
+        for name, tree in trees.items():
+            for node in [node for node in tree.body if isinstance(node, ast.ImportFrom)]:
+                defined = [n.name for n in trees[node.module].body if isinstance(n, (ast.FunctionDef, ast.ClassDef))]
+                defined += [t.id for n in trees[node.module].body if isinstance(n, ast.Assign) for t in n.targets]
+                used = [n.id for n in ast.walk(tree) if isinstance(n, ast.Name)]
+                for alias in node.names:
+                    with self.subTest(file=name, drawn=alias.name):
+                        self.assertIn(alias.name, defined)
+                        self.assertIn(alias.name, used)
+
     def test_no_two_files_draw_from_one_another(self):
         left = {f"meetvalue.{path.stem}": drawn_from(path.read_text(encoding="utf-8")) for path in self.files()}
         while left:
