@@ -3,9 +3,11 @@
 from meetvalue.mixing import cells_of, mixed_forms, mixed_together, outside, record_form, with_name
 from meetvalue.tables import ALL_RECORDS, ANY, NO_RECORDS, NOTHING
 
-# So many pairs of forms are looked at, and so many names one behind the other, before it is given up.
+# So many pairs of forms are looked at, so many names one behind the other, and so many cells at one, before it is
+# given up.
 MOST_LOOKS = 2000
 MOST_NAMES = 60
+MOST_CELLS = 40
 
 
 # What was found for pairs (low, high): rows that let in all of low and nothing beyond high, and the form of all that
@@ -48,6 +50,8 @@ class Cell:
 def covered_at_name(search, low, high, names):
     name = min([node[1] for node in (search.table.nodes[low], search.table.nodes[high]) if node[0] == "name"])
     cells = cells_at(search.table, name, low, high)
+    if len(cells) > MOST_CELLS:
+        return None
     common = meeting(search.table, [cell.high for cell in cells])
     ways = []
     for cell in cells:

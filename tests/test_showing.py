@@ -163,6 +163,14 @@ class Shown(unittest.TestCase):
                         if (looks, names) == (2000, 60):
                             self.assertLess(len(cover), 6)
                         self.hold(kind)
+        with mock.patch("meetvalue.covers.MOST_CELLS", 2):
+            for text in texts:
+                kind = kind_of(read(text), NOTHING)
+                table = Table()
+                self.assertIsNone(cover_of(table, entered_form(table, kind[5])))
+                self.hold(kind)
+        kind = kind_of(read(" | ".join("{k: %d, x: %d}" % (k, k) for k in range(0, 200, 2))), NOTHING)
+        self.assertTrue(are_same(kind_of(read(shown(kind)), NOTHING), kind))
         many = NAMES[:80]
         text = " | ".join("{a: %d, %s: 1, ..}" % pair for pair in enumerate(many)) + " | {a?: !0..79, z: 1, ..}"
         kind = kind_of(read(text), NOTHING)
