@@ -9,6 +9,8 @@ def mixed_kinds(table, word, one, other):
     known = at_once(word, one, other, NOTHING, ANY)
     if known is not None:
         return known
+    if word != "or" and are_apart(table.nodes[one], table.nodes[other]):
+        return NOTHING if word == "and" else one
     if (word, one, other) not in table.mixes:
         table.mixes[(word, one, other)] = mixed_anew(table, word, table.nodes[one], table.nodes[other])
     return table.mixes[(word, one, other)]
@@ -23,6 +25,31 @@ def mixed_anew(table, word, one, other):
         mixed_forms(table, word, one[4], other[4], NO_LISTS, ALL_LISTS),
         mixed_forms(table, word, one[5], other[5], NO_RECORDS, ALL_RECORDS),
     ))
+
+
+# True where a short look tells that two kinds have no thing in common: so it is with most pairs of many branches.
+def are_apart(one, other):
+    if (one[0] and other[0]) or (one[1] != () and other[1] != ()):
+        return False
+    if (one[4] != NO_LISTS and other[4] != NO_LISTS) or (one[5] != NO_RECORDS and other[5] != NO_RECORDS):
+        return False
+    if one[3][0] == "but" or other[3][0] == "but":
+        return False
+    return (are_ahead(one[3][1], other[3][1]) or are_ahead(other[3][1], one[3][1])) and (
+        spans_are_ahead(one[2], other[2]) or spans_are_ahead(other[2], one[2])
+    )
+
+
+def are_ahead(one, other):
+    return one == () or other == () or one[-1] < other[0]
+
+
+# No number is below a low without a least number, (), as no tuple is sorted ahead of it.
+def spans_are_ahead(one, other):
+    if one == () or other == ():
+        return True
+    high = one[-1][1]
+    return high != () and high < other[0][0]
 
 
 # What takes no look within, of kinds and forms alike; None where it takes one.
